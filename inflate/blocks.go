@@ -4,24 +4,10 @@ import (
 	"stemma/api"
 	"stemma/bits"
 	"stemma/huff"
+	"stemma/symbols"
 )
 
 const types = 3 // of blocks
-
-// Symbols. Literals are those below end, lengths of matches those above it.
-const (
-	end          = 256
-	lastLength   = 285 // stands for mostLength alone: its span would begin beyond that
-	lastDistance = 29
-)
-
-const (
-	leastLength   = 3
-	mostLength    = 258
-	leastDistance = 1
-	lengthSteps   = 4
-	distanceSteps = 2
-)
 
 // reader reads the blocks of in. The result so far is out, the window into which matches reach back.
 type reader struct {
@@ -85,7 +71,7 @@ func (r *reader) stored() api.Errno {
 // fixed reads a block with the codes that are always the same.
 func (r *reader) fixed() api.Errno {
 	if r.known == nil {
-		c, e := codesOf(fixedLengths())
+		c, e := codesOf(symbols.FixedLengths())
 		if e != api.OK {
 			return e
 		}
@@ -108,8 +94,8 @@ func (r *reader) coded(c *codes) api.Errno {
 runs:
 	for {
 		symbol, e := c.literals.Read(r.in)
-		for ; e == api.OK && symbol <= end; symbol, e = c.literals.Read(r.in) {
-			if symbol == end {
+		for ; e == api.OK && symbol <= symbols.End; symbol, e = c.literals.Read(r.in) {
+			if symbol == symbols.End {
 				break runs
 			}
 			if e := r.put(byte(symbol)); e != api.OK {
@@ -149,14 +135,11 @@ func (r *reader) match(symbol int, distances *huff.Code) api.Errno {
 }
 
 func (r *reader) length(symbol int) (int, api.Errno) {
-	if symbol > lastLength {
+	if symbol > symbols.LastLength {
 		return 0, api.ErrForm
 	}
-	if symbol == lastLength {
-		return mostLength, api.OK
-	}
-	first, extra := span(symbol-end-1, lengthSteps)
-	return r.count(extra, leastLength+first)
+	least, extra := symbols.Length(symbol)
+	return r.count(extra, least)
 }
 
 func (r *reader) distance(code *huff.Code) (int, api.Errno) {
@@ -164,20 +147,11 @@ func (r *reader) distance(code *huff.Code) (int, api.Errno) {
 	if e != api.OK {
 		return 0, e
 	}
-	if symbol > lastDistance {
+	if symbol > symbols.LastDistance {
 		return 0, api.ErrForm
 	}
-	first, extra := span(symbol, distanceSteps)
-	return r.count(extra, leastDistance+first)
-}
-
-// span tells the first of the numbers that share symbol n, and how many bits tell which of them is meant. Twice steps symbols stand for a number each; after that, each steps symbols stand for twice as many numbers as the ones before.
-func span(n, steps int) (first, extra int) {
-	if n < 2*steps {
-		return n, 0
-	}
-	extra = n/steps - 1
-	return (steps + n%steps) << extra, extra
+	least, extra := symbols.Distance(symbol)
+	return r.count(extra, least)
 }
 
 // put adds a byte to the result, unless this has all that it may have.

@@ -5,36 +5,12 @@ import (
 
 	"stemma/api"
 	"stemma/huff"
+	"stemma/symbols"
 )
-
-const (
-	leastLiterals  = 257
-	mostLiterals   = 286
-	leastDistances = 1
-	mostDistances  = 30
-	leastOrdered   = 4
-)
-
-// Symbols of the code in which the lengths of a block's codes are written; those below them are lengths.
-const (
-	again     = 16 // the length before, a few times
-	zeros     = 17
-	manyZeros = 18
-	symbols   = 19
-)
-
-// order lists these symbols as their lengths come.
-var order = [symbols]int{16, 17, 18, 0, 8, 7, 9, 6, 10, 5, 11, 4, 12, 3, 13, 2, 14, 1, 15}
 
 // codes are those of a block.
 type codes struct {
 	literals, distances *huff.Code
-}
-
-// fixedLengths tells the lengths of the codes that blocks of type 1 have, also of the symbols that no block may use.
-func fixedLengths() (literals, distances []int) {
-	literals = slices.Concat(times(8, 144), times(9, 112), times(7, 24), times(8, 8))
-	return literals, times(5, 32)
 }
 
 // codesOf makes the codes of a block.
@@ -71,25 +47,25 @@ func distanceCode(lengths []int) (*huff.Code, api.Errno) {
 
 // codes reads the codes of a block.
 func (r *reader) codes() (*codes, api.Errno) {
-	literals, e := r.count(5, leastLiterals)
+	literals, e := r.count(5, symbols.LeastLiterals)
 	if e != api.OK {
 		return nil, e
 	}
-	if literals > mostLiterals {
+	if literals > symbols.MostLiterals {
 		return nil, api.ErrForm
 	}
-	distances, e := r.count(5, leastDistances)
+	distances, e := r.count(5, symbols.LeastDistances)
 	if e != api.OK {
 		return nil, e
 	}
-	if distances > mostDistances {
+	if distances > symbols.MostDistances {
 		return nil, api.ErrForm
 	}
 	lengths, e := r.lengths(literals + distances)
 	if e != api.OK {
 		return nil, e
 	}
-	if lengths[end] == 0 {
+	if lengths[symbols.End] == 0 {
 		return nil, api.ErrForm
 	}
 	return codesOf(lengths[:literals], lengths[literals:])
@@ -111,56 +87,44 @@ func (r *reader) lengths(n int) ([]int, api.Errno) {
 		if e != api.OK {
 			return nil, e
 		}
-		if symbol == again && len(lengths) == 0 || len(lengths)+run > n {
+		if symbol == symbols.Again && len(lengths) == 0 || len(lengths)+run > n {
 			return nil, api.ErrForm
 		}
-		lengths = append(lengths, times(lengthOf(symbol, lengths), run)...)
+		lengths = append(lengths, slices.Repeat([]int{lengthOf(symbol, lengths)}, run)...)
 	}
 	return lengths, api.OK
 }
 
 // lengthCode reads the code in which the lengths are written.
 func (r *reader) lengthCode() (*huff.Code, api.Errno) {
-	n, e := r.count(4, leastOrdered)
+	n, e := r.count(4, symbols.LeastOrdered)
 	if e != api.OK {
 		return nil, e
 	}
-	lengths := make([]int, symbols)
+	lengths := make([]int, symbols.MostOrdered)
 	for i := range n {
 		length, e := r.take(3)
 		if e != api.OK {
 			return nil, e
 		}
-		lengths[order[i]] = length
+		lengths[symbols.Ordered(i)] = length
 	}
 	return completeCode(lengths)
 }
 
 // run tells for how many lengths a symbol stands.
 func (r *reader) run(symbol int) (int, api.Errno) {
-	switch symbol {
-	case again:
-		return r.count(2, 3)
-	case zeros:
-		return r.count(3, 3)
-	case manyZeros:
-		return r.count(7, 11)
-	}
-	return 1, api.OK
+	least, extra := symbols.Run(symbol)
+	return r.count(extra, least)
 }
 
 // lengthOf tells for which length a symbol stands after those before it.
 func lengthOf(symbol int, before []int) int {
 	switch symbol {
-	case again:
+	case symbols.Again:
 		return before[len(before)-1]
-	case zeros, manyZeros:
+	case symbols.Zeros, symbols.ManyZeros:
 		return 0
 	}
 	return symbol
-}
-
-// times tells a list of n times the number v.
-func times(v, n int) []int {
-	return slices.Repeat([]int{v}, n)
 }
