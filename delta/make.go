@@ -12,26 +12,44 @@ const (
 	mostTries = 32
 )
 
-// Make tells a delta by which target is made from base. The whole target is looked for first: where the base has many blocks that are the same, the index has only some.
+// Make tells a delta by which target is made from base. The whole target is looked for first, and what both begin and end with: where the base has many blocks that are the same, the index has only some.
 func Make(base, target []byte) []byte {
 	d := slices.Concat(Number(len(base)), Number(len(target)))
 	if at := bytes.Index(base, target); at >= 0 && len(target) >= blockSize {
 		return appendCopies(d, at, len(target))
 	}
+	first := common(base, target)
+	if first < blockSize {
+		first = 0
+	}
+	last := commonEnd(base[first:], target[first:])
+	if last < blockSize {
+		last = 0
+	}
+	d = appendCopies(d, 0, first)
+	d = appendText(d, base, target[first:len(target)-last])
+	return appendCopies(d, len(base)-last, last)
+}
+
+// appendText appends what makes a text of pieces of the base and of what is between them.
+func appendText(d, base, text []byte) []byte {
+	if len(text) < blockSize {
+		return appendInserts(d, text)
+	}
 	x := indexOf(base)
-	done := 0 // bytes of target that d describes
-	for at := 0; at+blockSize <= len(target); {
-		m := x.longest(target[done:at], target[at:])
+	done := 0 // bytes of text that d describes
+	for at := 0; at+blockSize <= len(text); {
+		m := x.longest(text[done:at], text[at:])
 		if m.size == 0 {
 			at++
 			continue
 		}
-		d = appendInserts(d, target[done:at-m.before])
+		d = appendInserts(d, text[done:at-m.before])
 		d = appendCopies(d, m.from, m.size)
 		done = at - m.before + m.size
 		at = done
 	}
-	return appendInserts(d, target[done:])
+	return appendInserts(d, text[done:])
 }
 
 // index knows where the blocks of a base are.
@@ -98,11 +116,12 @@ func commonEnd(a, b []byte) int {
 
 // appendCopies appends what copies n bytes of the base.
 func appendCopies(d []byte, at, n int) []byte {
-	for ; n > noLength; n -= noLength {
-		d = appendCopy(d, at, noLength)
-		at += noLength
+	for n > 0 {
+		part := min(n, noLength)
+		d = appendCopy(d, at, part)
+		at, n = at+part, n-part
 	}
-	return appendCopy(d, at, n)
+	return d
 }
 
 // appendCopy appends a single copy, of at most noLength bytes.

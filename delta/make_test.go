@@ -168,6 +168,29 @@ func TestMakeOfChanges(t *testing.T) {
 	}
 }
 
+// That holds too where a text consists of a few blocks again and again, each at more places than are tried.
+func TestMakeOfChangesAmongFewBlocks(t *testing.T) {
+	rnd := rand.New(rand.NewSource(1040))
+	for _, size := range []int{1, 3, 4, 8, 12, 16} {
+		for blocks := 2; blocks < 20; blocks++ {
+			text := few(rnd, size*blocks, 256)
+			base := ""
+			for len(base) < 5000 {
+				at := size * rnd.Intn(blocks)
+				base += text[at : at+size]
+			}
+			at := 8 + rnd.Intn(len(base)-17)
+			changed := []byte(base)
+			changed[at] ^= byte(1 + rnd.Intn(255))
+			for put, target := range map[int]string{1: string(changed), 7: base[:at] + "changed" + base[at:], 0: base[:at] + base[at+1:]} {
+				if n := makes(t, base, target); n > 2*2+2*5+1+put {
+					t.Errorf("%d blocks of %d: %d, %d: a delta of %d bytes", blocks, size, at, put, n)
+				}
+			}
+		}
+	}
+}
+
 // Of the places that begin alike, the one that goes on longest is taken.
 func TestMakeOfTheLongest(t *testing.T) {
 	rnd := rand.New(rand.NewSource(1039))
