@@ -4,6 +4,7 @@ import (
 	"slices"
 
 	"stemma/api"
+	"stemma/draft"
 	"stemma/fs"
 	"stemma/idx"
 	"stemma/loose"
@@ -131,10 +132,10 @@ func (p parcel) keep(f *fs.FS) api.Errno {
 
 // write makes the bytes durable before the files get their names, so that what a crash leaves there is always whole.
 func (p parcel) write(f *fs.FS, made, index string) api.Errno {
-	if e := fill(f, made, p.pack); e != api.OK {
+	if e := draft.Write(f, made, p.pack); e != api.OK {
 		return e
 	}
-	if e := fill(f, index, p.index); e != api.OK {
+	if e := draft.Write(f, index, p.index); e != api.OK {
 		return e
 	}
 	if e := f.Rename(made, packName(p.id)); e != api.OK {
@@ -144,20 +145,6 @@ func (p parcel) write(f *fs.FS, made, index string) api.Errno {
 		return e
 	}
 	return f.SyncNames()
-}
-
-// fill makes the bytes of a file durable, but not its name. A file that a crash left there is in the way.
-func fill(f *fs.FS, name string, b []byte) api.Errno {
-	if e := f.Remove(name); e != api.OK && e != api.ErrNone {
-		return e
-	}
-	if e := f.Create(name); e != api.OK {
-		return e
-	}
-	if e := f.Append(name, b); e != api.OK {
-		return e
-	}
-	return f.Sync(name)
 }
 
 // parse tells the first error of objects that aren't what their kinds ask for.
